@@ -442,10 +442,10 @@ func TestList(t *testing.T) {
 		return a
 	}
 	nothing(t, x,
-		keys(4, item("later dead", metaOf(1, 0, 4, "v")), item("b", metaOf(1, 0, 4, "v")), item("dead", deadAt(1, 0)), item("elder dead", deadAt(1, 0))),
+		keys(4, item("first dead", deadAt(3, 0)), item("first alive", metaOf(3, 0, 4, "v")), item("later dead", metaOf(1, 0, 4, "v")), item("b", metaOf(1, 0, 4, "v")), item("dead", deadAt(1, 0)), item("elder dead", deadAt(1, 0))),
 		keys(0),
-		keys(2, item("later dead", deadAt(1, 1)), item("\xff", metaOf(9, 0, 4, "v")), item("elder dead", metaOf(1, 1, 4, "v")), item("a", metaOf(1, 0, 4, "v")), item("b", metaOf(1, 0, 4, "v"))))
-	ended(t, x, api.Result{Op: 1, Do: api.DoList, Keys: []string{"a", "b", "elder dead", "\xff"}})
+		keys(2, item("first dead", metaOf(2, 3, 4, "v")), item("first alive", deadAt(2, 3)), item("later dead", deadAt(1, 1)), item("\xff", metaOf(9, 0, 4, "v")), item("elder dead", metaOf(1, 1, 4, "v")), item("a", metaOf(1, 0, 4, "v")), item("b", metaOf(1, 0, 4, "v"))))
+	ended(t, x, api.Result{Op: 1, Do: api.DoList, Keys: []string{"a", "b", "elder dead", "first alive", "\xff"}})
 	nothing(t, x, keys(1, item("c", metaOf(1, 0, 4, "v"))))
 	idle(t, x)
 	begun(t)(x.List())

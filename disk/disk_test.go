@@ -439,6 +439,17 @@ func TestLeftIsADiskOfItsOwn(t *testing.T) {
 		t.Error("Left with the power 0:", err)
 	}
 	fine(t, d.Append('f')) // its own power is still there
+	for fate, want := range []string{"}x", "|yyy", "|y"} {
+		one := d.Left(api.Fate{Slots: []int{fate}}, -1)
+		fine(t, one.Rot(0, 0), one.Rot(0, 1), one.Rot(0, 2))
+		two := one.Left(api.Fate{}, -1)
+		fine(t, two.Rot(0, 3))
+		before, _ := d.Read(0)
+		if string(before) != "{yyy" {
+			t.Errorf("the fate %d: the disk that was left reads %q", fate, before)
+		}
+		reads(t, one, "abcde"[:len(one.Log())], want)
+	}
 }
 
 // apart: does no list share memory with another, spare room included?
@@ -482,6 +493,11 @@ func TestListsAreLeftAndAnswersAreNew(t *testing.T) {
 		}
 	}
 	reads(t, d, "laidlog", "slot", "")
+	again := []byte("laid")
+	fine(t, d.Lay(again), d.Write(1, again))
+	clear(again)
+	reads(t, d, "laid", "slot", "laid")
+	fine(t, d.Lay([]byte("laidlog")))
 	reads(t, d.Left(api.Fate{}, 0), "log", "slot", "")
 	fine(t, d.Append('!'), d.SyncLog(), d.Append('?'))
 	reads(t, d.Left(api.Fate{}, 0), "laidlog!", "slot", "")

@@ -115,6 +115,8 @@ func TestNextOfWrongBytes(t *testing.T) {
 		{[]byte{90, 255, 255}, api.OK},
 		{[]byte{90, 255, 255, 255}, api.ErrFrame},
 		{[]byte{90, 0, 128, 1}, api.ErrFrame},
+		{[]byte{90, 1, 0, 0}, api.ErrFrame},
+		{append([]byte{90, 128, 0, 0}, make([]byte, 100)...), api.ErrFrame},
 		{[]byte{90, 0, 128, 0}, api.OK},
 		{[]byte{90, 0, 0, 0}, api.OK},
 		{make([]byte, 1000), api.ErrFrame},

@@ -327,6 +327,7 @@ func TestErrorsOfStage(t *testing.T) {
 		{"k", metaOf(4, 0, 1, "old"), nil, api.ErrStale},
 		{"k", metaOf(3, 3, 1, "old"), []api.Sym{sym(0, 0, 1), sym(0, 1, 1), sym(0, 2, 1), sym(0, 3, 1)}, api.ErrStale},
 		{"k", other, nil, api.ErrClash},
+		{"k", metaOf(7, 0, 1, "STAGED"), nil, api.ErrClash},
 		{"k", metaOf(7, 0, 2, "staged"), nil, api.ErrClash},
 		{"k", other, []api.Sym{sym(0, 0, 1), sym(0, 1, 1), sym(0, 2, 1), sym(0, 3, 1)}, api.ErrClash},
 		{"k", good, []api.Sym{sym(0, 0, 1), sym(0, 1, 1), sym(0, 2, 1), sym(0, 3, 1)}, api.ErrFull},
@@ -383,6 +384,7 @@ func TestCommitOfStagedVersions(t *testing.T) {
 		{"k", api.Meta{Tag: tag(7, 0)}, api.ErrMeta},
 		{"k", metaOf(7, 0, 4, "another"), api.ErrClash},
 		{"k", metaOf(7, 0, 5, value), api.ErrClash},
+		{"k", metaOf(7, 0, 4, "ABCDEFGH"), api.ErrClash},
 		{"k", deadAt(7, 0), api.ErrClash},
 	} {
 		if err := s.Commit(c.key, c.m); err != c.want {
@@ -657,6 +659,12 @@ func TestOpenOfOtherLogs(t *testing.T) {
 	s := open(t, logOf(t, 4, stage(m), stage(metaOf(5, 0, 1, "other")), stage(later)))
 	if got := s.Staged("k"); len(got) != 2 || showMeta(got[0]) != showMeta(m) || showMeta(got[1]) != showMeta(later) {
 		t.Error("the first meta of a tag stays", got)
+	}
+	for _, elder := range []api.Meta{m, deadAt(5, 1), metaOf(6, 0, 1, "other"), deadAt(6, 0)} {
+		s := open(t, logOf(t, 4, stage(later, place(0, 0, 1)), commit(later), commit(elder), stage(metaOf(7, 0, 1, "v"))))
+		if got, _ := s.Meta("k"); showMeta(got) != showMeta(later) || s.Free() != 3 || len(s.Staged("k")) != 1 {
+			t.Error("a commit that isn't later changes nothing", show(s, "k"))
+		}
 	}
 	d := newDisk(t, 4, -1)
 	f, _ := frame.Pack([]byte("no record"))

@@ -286,6 +286,16 @@ func TestEachStepHasANumber(t *testing.T) {
 	}
 }
 
+func TestTwoClientsAtOneTime(t *testing.T) {
+	w := fresh(t, three())
+	steps(t, w, put(1, "k", "one"), get(0, "k"))
+	settle(t, w)
+	acts := w.Acts()
+	if len(acts) != 2 || acts[0].Client != 1 || acts[0].Result.Do != api.DoPut || acts[1].Result.Do != api.DoGet || acts[0].End <= acts[1].End || acts[1].End < 0 {
+		t.Error("each client's own act ends", showAct(acts[0]), showAct(acts[1]))
+	}
+}
+
 func TestQuitAndAgain(t *testing.T) {
 	w := fresh(t, three())
 	steps(t, w, put(0, "k", "v"), deliver(0), ofClient(api.StepAgain, 0))
@@ -437,6 +447,8 @@ func TestCrashWithoutPowerToOpen(t *testing.T) {
 			t.Error("a node that is down has answered")
 		}
 	}
+	// What was torn is torn for good: the disk is the one that the crash has left.
+	step(t, w, crash(0, 1, 0, false), api.ErrDown)
 	step(t, w, crash(0, 2, 5, false), api.OK)
 	holds(t, w, 0, "k", held(one(), 0, 1, 0, "abcd"))
 	step(t, w, crash(0, -1, 0, false), api.OK)
