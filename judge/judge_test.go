@@ -357,6 +357,19 @@ func TestGreatHistories(t *testing.T) {
 	}
 }
 
+func TestOrderIsAlwaysTheSame(t *testing.T) {
+	var acts []api.Act
+	for i := range 10 {
+		acts = append(acts, put("k", fmt.Sprint(i%3), 0, 100), missed(fmt.Sprint("other ", i), 0, 1))
+	}
+	first, there := judge.Order(acts, "k")
+	for range 50 {
+		if again, ok := judge.Order(acts, "k"); !there || !ok || !slices.Equal(again, first) {
+			t.Fatal("Order", first, again)
+		}
+	}
+}
+
 func TestListsAreLeftAndAnswersAreNew(t *testing.T) {
 	acts := []api.Act{put("k", "a", 0, 5), missed("k", 2, 3), found("k", "a", 4, 6), put("z", "", 9, 1)}
 	before := fmt.Sprint(acts)

@@ -700,6 +700,41 @@ func TestOnceAllIsUpWhatIsBegunEnds(t *testing.T) {
 	}
 }
 
+// TestTheSameStepsComeToTheSameEnd: nothing but the steps plays a part.
+func TestTheSameStepsComeToTheSameEnd(t *testing.T) {
+	r := rand.New(rand.NewSource(3))
+	for range 20 {
+		var script []api.Step
+		for range 300 {
+			s := deliver(r.Intn(6))
+			switch r.Intn(8) {
+			case 0:
+				s = put(r.Intn(2), string(rune('a'+r.Intn(9))), fmt.Sprint(r.Intn(1000)))
+			case 1:
+				s = api.Step{Kind: 1 + r.Intn(14), Client: r.Intn(2), Node: r.Intn(3), N: r.Intn(90), M: r.Intn(32), Key: "a", Value: []byte("v"), Fate: api.Fate{Keep: r.Intn(99), Slots: []int{1, 2}}}
+			}
+			script = append(script, s)
+		}
+		ends := []string{}
+		for range 3 {
+			w := fresh(t, three())
+			end := fmt.Sprint(w.Play(script...), w.Flight(), w.Down())
+			for _, a := range w.Acts() {
+				end += showAct(a)
+			}
+			for node := range 3 {
+				for key := 'a'; key <= 'i'; key++ {
+					end += showHeld(w.Held(node, string(key)))
+				}
+			}
+			ends = append(ends, end)
+		}
+		if ends[0] != ends[1] || ends[0] != ends[2] {
+			t.Fatal("the same steps have come to other ends")
+		}
+	}
+}
+
 // apart: does no list share memory with another, spare room included?
 func apart(lists ...[]byte) bool {
 	for i, a := range lists {
