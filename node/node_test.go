@@ -367,3 +367,13 @@ func TestListsAreLeftAndAnswersAreNew(t *testing.T) {
 		}
 	}
 }
+
+func TestNoStore(t *testing.T) {
+	n, _ := node.New(five(), 2, nil)
+	if n == nil {
+		return
+	}
+	for kind := api.MsgAsk; kind <= api.MsgKeys; kind++ {
+		silent(t, server{Node: n}, with(kind, "k", metaOf(1, "value")))
+	}
+}

@@ -409,3 +409,12 @@ func TestListsAreLeftAndAnswersAreNew(t *testing.T) {
 		t.Error("the store has kept what was answered")
 	}
 }
+
+func TestNoStore(t *testing.T) {
+	if spots, _ := scrub.Scrub(nil); len(spots) != 0 {
+		t.Error("Scrub of no store", spots)
+	}
+	if got, err := scrub.Mend(three(), 0, nil, "k", deal(three(), value)...); len(got) != 0 || err == api.OK {
+		t.Error("Mend of no store", show(got), err)
+	}
+}

@@ -870,3 +870,9 @@ func TestTwoStoresHaveNothingInCommon(t *testing.T) {
 		t.Error(show(two, "k"))
 	}
 }
+
+func TestNoDisk(t *testing.T) {
+	if s, err := store.Open(nil); s != nil || err == api.OK {
+		t.Error("Open of no disk:", err)
+	}
+}
